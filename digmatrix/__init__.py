@@ -1,0 +1,1 @@
+"""Digmatrix: a dig told by its layers."""
