@@ -28,6 +28,8 @@ METHODS = set(
     "join keys ljust lower lstrip partition pop remove replace reverse rfind rjust rpartition rsplit rstrip setdefault "
     "split splitlines startswith strip update upper values zfill bit_length".split()
 )
+WALKED = ("zip", "enumerate", "reversed", "range", "items", "keys", "values")
+WALKERS = ("list", "tuple", "dict", "sorted", "sum", "any", "all", "enumerate", "zip", "min", "max")
 NO_WORDS = re.compile(
     r"\b(type|typing|typing_extensions|enum|Enum|IntEnum|StrEnum|Flag|IntFlag|Generic|Protocol|ABC|ABCMeta|namedtuple|"
     r"NamedTuple|TypedDict|TYPE_CHECKING|abstractmethod)\b|dataclass|overload|contextmanager"
@@ -176,6 +178,55 @@ class Language(unittest.TestCase):
                 else:
                     self.assertIs(node, tree.body[0])
             self.assertEqual(len(top), len(set(top)))
+
+    def test_no_parameter_or_local_is_called_like_what_stands_at_the_files_top(self):
+        for name, tree in trees():
+            top = {part.name for part in tree.body if isinstance(part, (ast.FunctionDef, ast.ClassDef))}
+            for node in tree.body:
+                if isinstance(node, ast.ImportFrom):
+                    top.update(alias.name for alias in node.names)
+                if isinstance(node, ast.Assign):
+                    top.add(node.targets[0].id)
+            for part in tree.body:
+                if isinstance(part, (ast.FunctionDef, ast.ClassDef)):
+                    for node in ast.walk(part):
+                        if isinstance(node, ast.arg):
+                            self.assertNotIn(node.arg, top, name)
+                        if isinstance(node, ast.Name) and isinstance(node.ctx, ast.Store):
+                            self.assertNotIn(node.id, top, name)
+
+    def test_what_is_walked_at_once_is_not_kept(self):
+        for name, tree in trees():
+            free = set()
+            for node in ast.walk(tree):
+                if isinstance(node, (ast.For, ast.comprehension)):
+                    free.add(id(node.iter))
+                if isinstance(node, ast.Call) and node.args and isinstance(node.func, ast.Name):
+                    if node.func.id in WALKERS:
+                        free.add(id(node.args[0]))
+                if isinstance(node, ast.Call) and isinstance(node.func, ast.Attribute) and node.func.attr == "join":
+                    free.update(id(part) for part in node.args)
+            for node in ast.walk(tree):
+                if isinstance(node, ast.Call):
+                    word = getattr(node.func, "id", getattr(node.func, "attr", ""))
+                    if word in WALKED:
+                        self.assertIn(id(node), free, (name, node.lineno))
+
+    def test_sets(self):
+        for name, tree in trees():
+            for node in ast.walk(tree):
+                self.assertNotIsInstance(node, ast.Set)
+                if isinstance(node, ast.Name):
+                    self.assertNotIn(node.id, ("set", "frozenset"), (name, node.lineno))
+
+    def test_own_errors_are_taken_by_name(self):
+        for name, tree in trees():
+            for node in ast.walk(tree):
+                if isinstance(node, ast.ExceptHandler):
+                    self.assertIsInstance(node.type, ast.Name)
+                    self.assertNotIn(node.type.id, BUILT_IN, (name, node.lineno))
+                if isinstance(node, ast.Raise):
+                    self.assertIsInstance(node.exc, ast.Call)
 
     def test_methods(self):
         own = set()
