@@ -41,18 +41,22 @@ def is_passed_over(words):
     return words == [] or words[0].startswith(";")
 
 
-# The first word and the values behind it in one tuple, so that a tie's line
-# gives the tie itself. It asks nothing of the lines above.
+# It asks nothing of the lines above.
 def read_entry(words, row):
     if words[0] not in FORMS:
         raise BadRow(row)
-    form = FORMS[words[0]]
+    return read_form(FORMS[words[0]], words, row)
+
+
+# The first word and the values behind it in one tuple, so that a tie's line
+# gives the tie itself.
+def read_form(form, words, row):
     if len(words) != len(form) + 1:
         raise BadRow(row)
     # In every form names stand ahead of numbers, so a wrong name is met first.
     values = [read_value(kind, word, row) for kind, word in zip(form, words[1:])]
-    # Where a form has years, its last two words are a first and a last one.
-    if "year" in form and values[-2] > values[-1]:
+    # Two years at a form's end are a first and a last one.
+    if form[-2:] == ("year", "year") and values[-2] > values[-1]:
         raise BadSpan(row)
     return (words[0],) + tuple(values)
 
